@@ -1,0 +1,51 @@
+package tollgate_test
+
+import (
+	"math"
+	"testing"
+
+	"tollgate/api"
+	"tollgate/tollgate"
+)
+
+func begin(t *testing.T, room, pass int) *tollgate.Gate {
+	t.Helper()
+	g, e := tollgate.New(room, pass)
+	if e != api.OK || g == nil {
+		t.Fatalf("P3: New(%d, %d) = %v, %d", room, pass, g != nil, e)
+	}
+	return g
+}
+
+func ask(t *testing.T, g *tollgate.Gate, weight, band, wait, number, stands int) {
+	t.Helper()
+	n, s, e := g.Ask(weight, band, wait)
+	if n != number || s != stands || e != api.OK {
+		t.Errorf("P4: Ask(%d, %d, %d) = %d, %d, %d, want %d, %d, 0", weight, band, wait, n, s, e, number, stands)
+	}
+}
+
+func give(t *testing.T, g *tollgate.Gate, ticket int, want api.Errno) {
+	t.Helper()
+	if e := g.Give(ticket); e != want {
+		t.Errorf("P5: Give(%d) = %d, want %d", ticket, e, want)
+	}
+}
+
+// stands asks how all tickets stand, and that there is none behind them.
+func stands(t *testing.T, g *tollgate.Gate, held int, states ...int) {
+	t.Helper()
+	for i, want := range states {
+		if s, e := g.State(i + 1); s != want || e != api.OK {
+			t.Errorf("P4: State(%d) = %d, %d, want %d, 0", i+1, s, e, want)
+		}
+	}
+	for _, n := range []int{math.MinInt, -1, 0, len(states) + 1, len(states) + 2, math.MaxInt} {
+		if s, e := g.State(n); s != 0 || e != api.ErrNone {
+			t.Errorf("P4: State(%d) = %d, %d, want 0, ErrNone", n, s, e)
+		}
+	}
+	if h := g.Held(); h != held {
+		t.Errorf("P7: Held() = %d, want %d", h, held)
+	}
+}

@@ -1,0 +1,133 @@
+package tollgate_test
+
+import (
+	"runtime"
+	"sync"
+	"testing"
+
+	"tollgate/api"
+	"tollgate/tollgate"
+)
+
+const (
+	workers = 8
+	rounds  = 400
+)
+
+// atOnce runs the work in several goroutines that begin together, and waits for all.
+func atOnce(work func(worker int)) {
+	var w sync.WaitGroup
+	begin := make(chan struct{})
+	for i := range workers {
+		w.Add(1)
+		go func() {
+			defer w.Done()
+			<-begin
+			work(i)
+		}()
+	}
+	close(begin)
+	w.Wait()
+}
+
+// Each Ask has a number of its own, with none left out.
+func TestAsksAtOnce(t *testing.T) {
+	g := begin(t, 50, 3)
+	numbers := make([][]int, workers)
+	atOnce(func(worker int) {
+		for i := range rounds {
+			n, _, e := g.Ask(1+i%3, i%api.Bands, api.Forever)
+			if e != api.OK {
+				t.Errorf("P4: Ask: %d", e)
+			}
+			numbers[worker] = append(numbers[worker], n)
+		}
+	})
+	seen := make([]int, workers*rounds+1)
+	for _, list := range numbers {
+		for i, n := range list {
+			if n < 1 || n >= len(seen) || i > 0 && n <= list[i-1] {
+				t.Fatalf("P2: a ticket %d, where %d were asked for", n, workers*rounds)
+			}
+			seen[n]++
+		}
+	}
+	for n, times := range seen[1:] {
+		if times != 1 {
+			t.Errorf("P2: the ticket %d was had %d times", n+1, times)
+		}
+	}
+}
+
+// All that wait come in at last, if those that hold give back, whoever gives when.
+func TestGivesAtOnce(t *testing.T) {
+	g := begin(t, 7, 2)
+	atOnce(func(worker int) {
+		for i := range rounds {
+			n, _, _ := g.Ask(1+(i+worker)%7, i%api.Bands, api.Forever)
+			if !giveWhenHeld(t, g, n) {
+				return
+			}
+			if held := g.Held(); held < 0 || held > 7 {
+				t.Errorf("P7: Held() = %d", held)
+			}
+		}
+	})
+	if held := g.Held(); held != 0 {
+		t.Errorf("P7: Held() = %d, want 0", held)
+	}
+	for n := range workers * rounds {
+		if s, e := g.State(n + 1); s != api.Done || e != api.OK {
+			t.Fatalf("P4: State(%d) = %d, %d, want Done", n+1, s, e)
+		}
+	}
+}
+
+// giveWhenHeld says whether the ticket came in; it gives up at last, so that a gate at fault fails the test, and does not hang it.
+func giveWhenHeld(t *testing.T, g *tollgate.Gate, n int) bool {
+	for range 10_000_000 {
+		s, e := g.State(n)
+		if e == api.OK && s == api.Waits {
+			runtime.Gosched()
+			continue
+		}
+		if e != api.OK || s != api.Holds {
+			t.Errorf("P4: State(%d) = %d, %d", n, s, e)
+			return false
+		}
+		if e := g.Give(n); e != api.OK {
+			t.Errorf("P5: Give(%d) = %d", n, e)
+			return false
+		}
+		return true
+	}
+	t.Errorf("P5: the ticket %d never came in", n)
+	return false
+}
+
+// Of several that give the same tickets back, one does so for each.
+func TestGiveTheSameAtOnce(t *testing.T) {
+	for range 20 {
+		g := begin(t, api.MaxRoom, 0)
+		for i := range api.MaxRoom {
+			ask(t, g, 1, 0, 0, i+1, api.Holds)
+		}
+		var given [workers]int
+		atOnce(func(worker int) {
+			for i := range api.MaxRoom {
+				if e := g.Give(i + 1); e == api.OK {
+					given[worker]++
+				} else if e != api.ErrState {
+					t.Errorf("P5: Give(%d) = %d", i+1, e)
+				}
+			}
+		})
+		sum := 0
+		for _, n := range given {
+			sum += n
+		}
+		if sum != api.MaxRoom || g.Held() != 0 {
+			t.Fatalf("P2: %d tickets were given back %d times, and %d is held", api.MaxRoom, sum, g.Held())
+		}
+	}
+}
