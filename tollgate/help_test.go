@@ -2,6 +2,7 @@ package tollgate_test
 
 import (
 	"math"
+	"slices"
 	"testing"
 
 	"tollgate/api"
@@ -47,5 +48,40 @@ func stands(t *testing.T, g *tollgate.Gate, held int, states ...int) {
 	}
 	if h := g.Held(); h != held {
 		t.Errorf("P7: Held() = %d, want %d", h, held)
+	}
+}
+
+func cancel(t *testing.T, g *tollgate.Gate, ticket int, want api.Errno) {
+	t.Helper()
+	if e := g.Cancel(ticket); e != want {
+		t.Errorf("P6: Cancel(%d) = %d, want %d", ticket, e, want)
+	}
+}
+
+func resize(t *testing.T, g *tollgate.Gate, room int, want api.Errno) {
+	t.Helper()
+	if e := g.Resize(room); e != want {
+		t.Errorf("P6: Resize(%d) = %d, want %d", room, e, want)
+	}
+}
+
+func queue(t *testing.T, g *tollgate.Gate, want ...int) {
+	t.Helper()
+	if l := g.Queue(); !slices.Equal(l, want) {
+		t.Errorf("P7: Queue() = %v, want %v", l, want)
+	}
+}
+
+func ticks(g *tollgate.Gate, times int) {
+	for range times {
+		g.Tick()
+	}
+}
+
+// scribble writes over a list that came out, its spare room too.
+func scribble(l []int) {
+	l = l[:cap(l)]
+	for i := range l {
+		l[i] = -77
 	}
 }

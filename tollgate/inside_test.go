@@ -1,6 +1,7 @@
 package tollgate
 
 import (
+	"slices"
 	"testing"
 	"time"
 
@@ -51,6 +52,54 @@ func TestChannels(t *testing.T) {
 	}
 }
 
+// Who is cancelled or late has its channel closed too, and leaves the list.
+func TestChannelsOfThoseThatLeave(t *testing.T) {
+	g := open(t, 0, 0)
+	for _, wait := range []int{api.Forever, 1, api.Forever} {
+		g.Ask(1, 0, wait)
+	}
+	first, second, third := g.tickets[0].over, g.tickets[1].over, g.tickets[2].over
+	g.Cancel(1)
+	if !isClosed(first) || isClosed(second) || isClosed(third) {
+		t.Error("the channel of the one that was cancelled, and it alone, is closed")
+	}
+	g.Tick()
+	if !isClosed(second) || isClosed(third) {
+		t.Error("the channel of the one that is late, and no other, is closed by the Tick")
+	}
+	if n := g.waiting.First(); n == nil || n.Value.ticket != 3 || n.Next() != nil {
+		t.Error("those that left stand in the list still, or the one that waits does not")
+	}
+	g.Cancel(3)
+	if !isClosed(third) || g.waiting.First() != nil {
+		t.Error("the last one has not left")
+	}
+}
+
+// A count above the bound, which no calls bring about, is as one at it.
+func TestCountAboveTheBound(t *testing.T) {
+	for _, count := range []int{2, 3, 100} {
+		g := open(t, 1, 2)
+		for _, band := range []int{0, 2, 1, 0, 2, 1} {
+			g.Ask(1, band, api.Forever)
+		}
+		g.place(3).Value.count = count
+		g.place(5).Value.count = 2
+		g.place(6).Value.count = 1
+		if l := g.Queue(); !slices.Equal(l, []int{3, 5, 4, 6, 2}) {
+			t.Errorf("count %d: Queue() = %v", count, l)
+		}
+		holder := 1
+		for _, next := range []int{3, 5, 2, 4} { // 3 and 5 bring 2 to the bound
+			g.Give(holder)
+			if s, _ := g.State(next); s != api.Holds {
+				t.Errorf("count %d: State(%d) = %d, want Holds", count, next, s)
+			}
+			holder = next
+		}
+	}
+}
+
 // One waits for ever, or until the time is so much more than now.
 func TestUntil(t *testing.T) {
 	for _, c := range []struct{ now, wait, until int }{
@@ -72,14 +121,22 @@ func TestUntil(t *testing.T) {
 func TestEachCallTakesTheMutex(t *testing.T) {
 	g := open(t, 3, 0)
 	g.Ask(1, 0, 0)
+	g.Ask(100, 0, api.Forever)
 	for name, call := range map[string]func(){
-		"Ask":            func() { g.Ask(1, 0, api.Forever) },
-		"Ask, an error":  func() { g.Ask(0, 0, 0) },
-		"State":          func() { g.State(1) },
-		"State, none":    func() { g.State(0) },
-		"Give":           func() { g.Give(1) },
-		"Give, an error": func() { g.Give(0) },
-		"Held":           func() { g.Held() },
+		"Ask":              func() { g.Ask(1, 0, api.Forever) },
+		"Ask, an error":    func() { g.Ask(0, 0, 0) },
+		"State":            func() { g.State(1) },
+		"State, none":      func() { g.State(0) },
+		"Give":             func() { g.Give(1) },
+		"Give, an error":   func() { g.Give(0) },
+		"Cancel":           func() { g.Cancel(2) },
+		"Cancel, none":     func() { g.Cancel(0) },
+		"Cancel, an error": func() { g.Cancel(1) },
+		"Tick":             func() { g.Tick() },
+		"Resize":           func() { g.Resize(2) },
+		"Resize, an error": func() { g.Resize(-1) },
+		"Held":             func() { g.Held() },
+		"Queue":            func() { g.Queue() },
 	} {
 		ended := make(chan struct{})
 		g.mutex.Lock()

@@ -131,3 +131,96 @@ func TestGiveTheSameAtOnce(t *testing.T) {
 		}
 	}
 }
+
+// Of several that cancel the same tickets, one does so for each.
+func TestCancelTheSameAtOnce(t *testing.T) {
+	g := begin(t, 0, 3)
+	for i := range rounds {
+		ask(t, g, 1, i%api.Bands, api.Forever, i+1, api.Waits)
+	}
+	var cancelled [workers]int
+	atOnce(func(worker int) {
+		for i := range rounds {
+			if e := g.Cancel(i + 1); e == api.OK {
+				cancelled[worker]++
+			} else if e != api.ErrState {
+				t.Errorf("P6: Cancel(%d) = %d", i+1, e)
+			}
+		}
+	})
+	sum := 0
+	for _, n := range cancelled {
+		sum += n
+	}
+	if sum != rounds || len(g.Queue()) != 0 {
+		t.Errorf("P2: %d tickets were cancelled %d times, and %v wait", rounds, sum, g.Queue())
+	}
+}
+
+// No Tick is lost: the ones that were to wait for all of them are late, and no others.
+func TestTicksAtOnce(t *testing.T) {
+	g := begin(t, 0, 3)
+	ask(t, g, 1, 0, workers*rounds-1, 1, api.Waits)
+	ask(t, g, 1, 0, workers*rounds, 2, api.Waits)
+	ask(t, g, 1, 0, workers*rounds+1, 3, api.Waits)
+	atOnce(func(int) { ticks(g, rounds) })
+	stands(t, g, 0, api.Late, api.Late, api.Waits)
+	g.Tick()
+	stands(t, g, 0, api.Late, api.Late, api.Late)
+}
+
+// With a bound of nothing each list is in the order of the tickets, and nobody stands in it twice, whatever goes on beside.
+func TestAllCallsAtOnce(t *testing.T) {
+	g := begin(t, 5, 0)
+	atOnce(func(worker int) {
+		for i := range rounds {
+			n, _, e := g.Ask(1+(i+worker)%5, i%api.Bands, []int{api.Forever, 0, 7}[i%3])
+			if e != api.OK {
+				t.Errorf("P4: Ask: %d", e)
+			}
+			switch (i + worker) % 5 {
+			case 0:
+				g.Cancel(n)
+			case 1:
+				g.Tick()
+			case 2:
+				g.Resize(i % 10)
+			case 3:
+				checkOrder(t, g.Queue())
+			}
+			g.Give(n - worker)
+		}
+	})
+	resize(t, g, 5, api.OK)
+	drain(t, g, workers*rounds)
+}
+
+func checkOrder(t *testing.T, l []int) {
+	for i, n := range l {
+		if n < 1 || n > workers*rounds || i > 0 && n <= l[i-1] {
+			t.Errorf("P7: Queue() = %v", l)
+			return
+		}
+	}
+	scribble(l)
+}
+
+// drain gives back all that is held, and all that comes in by it, until nobody is left.
+func drain(t *testing.T, g *tollgate.Gate, tickets int) {
+	for range tickets {
+		for n := range tickets {
+			g.Give(n + 1)
+		}
+		if g.Held() == 0 {
+			break
+		}
+	}
+	if g.Held() != 0 || len(g.Queue()) != 0 {
+		t.Errorf("P5: Held() = %d, Queue() = %v, though all was given back", g.Held(), g.Queue())
+	}
+	for n := range tickets {
+		if s, e := g.State(n + 1); s == api.Waits || s == api.Holds || e != api.OK {
+			t.Fatalf("P4: State(%d) = %d, %d", n+1, s, e)
+		}
+	}
+}

@@ -1,7 +1,9 @@
 package tollgate_test
 
 import (
+	"fmt"
 	"math/rand"
+	"slices"
 	"testing"
 
 	"tollgate/api"
@@ -14,7 +16,8 @@ type model struct {
 	tickets    []modelTicket
 }
 
-type modelTicket struct{ weight, band, count, stands int }
+// left is how many Ticks it is to wait still; below 0, if for ever.
+type modelTicket struct{ weight, band, count, stands, left int }
 
 func (m *model) held() int {
 	sum := 0
@@ -41,6 +44,17 @@ func (m *model) turn() int {
 		}
 	}
 	return -1
+}
+
+// queue takes away whose turn it is, again and again, from a copy.
+func (m *model) queue() []int {
+	rest := model{pass: m.pass, tickets: slices.Clone(m.tickets)}
+	var tickets []int
+	for i := rest.turn(); i >= 0; i = rest.turn() {
+		tickets = append(tickets, i+1)
+		rest.tickets[i].stands = api.Cancelled
+	}
+	return tickets
 }
 
 func (m *model) letIn() {
@@ -74,7 +88,7 @@ func (m *model) ask(weight, band, wait int) (int, int, api.Errno) {
 	} else if wait == 0 {
 		stands = api.Refused
 	}
-	m.tickets = append(m.tickets, modelTicket{weight: weight, band: band, stands: stands})
+	m.tickets = append(m.tickets, modelTicket{weight: weight, band: band, stands: stands, left: wait})
 	m.letIn()
 	n := len(m.tickets)
 	return n, m.tickets[n-1].stands, api.OK
@@ -92,52 +106,128 @@ func (m *model) give(ticket int) api.Errno {
 	return api.OK
 }
 
-// step is one call: Give of the ticket, or else Ask.
-type step struct {
-	give                       bool
-	ticket, weight, band, wait int
+func (m *model) cancel(ticket int) api.Errno {
+	if ticket < 1 || ticket > len(m.tickets) {
+		return api.ErrNone
+	}
+	if m.tickets[ticket-1].stands != api.Waits {
+		return api.ErrState
+	}
+	m.tickets[ticket-1].stands = api.Cancelled
+	m.letIn()
+	return api.OK
 }
 
-// same makes the call on both, and says whether they answer and stand alike; also that nobody was passed by too often.
-func same(g *tollgate.Gate, m *model, s step) bool {
-	if s.give {
-		if g.Give(s.ticket) != m.give(s.ticket) {
-			return false
-		}
-	} else {
-		n, stands, e := g.Ask(s.weight, s.band, s.wait)
-		n2, stands2, e2 := m.ask(s.weight, s.band, s.wait)
-		if n != n2 || stands != stands2 || e != e2 {
-			return false
+func (m *model) tick() {
+	for i := range m.tickets {
+		x := &m.tickets[i]
+		x.left--
+		if x.stands == api.Waits && x.left == 0 {
+			x.stands = api.Late
 		}
 	}
+	m.letIn()
+}
+
+func (m *model) resize(room int) api.Errno {
+	if room < 0 || room > 1000 {
+		return api.ErrRoom
+	}
+	m.room = room
+	m.letIn()
+	return api.OK
+}
+
+const (
+	toAsk = iota
+	toGive
+	toCancel
+	toTick
+	toResize
+)
+
+// step is one call; n is a ticket, or a room.
+type step struct{ call, n, weight, band, wait int }
+
+func (s step) String() string {
+	switch s.call {
+	case toGive:
+		return fmt.Sprintf("Give(%d)", s.n)
+	case toCancel:
+		return fmt.Sprintf("Cancel(%d)", s.n)
+	case toTick:
+		return "Tick()"
+	case toResize:
+		return fmt.Sprintf("Resize(%d)", s.n)
+	}
+	return fmt.Sprintf("Ask(%d, %d, %d)", s.weight, s.band, s.wait)
+}
+
+// sameAnswer makes the call on both, and says whether they answer alike.
+func sameAnswer(g *tollgate.Gate, m *model, s step) bool {
+	switch s.call {
+	case toGive:
+		return g.Give(s.n) == m.give(s.n)
+	case toCancel:
+		return g.Cancel(s.n) == m.cancel(s.n)
+	case toTick:
+		g.Tick()
+		m.tick()
+		return true
+	case toResize:
+		return g.Resize(s.n) == m.resize(s.n)
+	}
+	n, stands, e := g.Ask(s.weight, s.band, s.wait)
+	n2, stands2, e2 := m.ask(s.weight, s.band, s.wait)
+	return n == n2 && stands == stands2 && e == e2
+}
+
+// sameStand says whether all tickets, what is held and who waits are alike; also that nobody was passed by too often.
+func sameStand(g *tollgate.Gate, m *model) bool {
 	for i, x := range m.tickets {
 		if stands, e := g.State(i + 1); stands != x.stands || e != api.OK || x.count > m.pass {
 			return false
 		}
 	}
-	_, e := g.State(len(m.tickets) + 1)
-	return e == api.ErrNone && g.Held() == m.held() && m.held() <= m.room
+	if _, e := g.State(len(m.tickets) + 1); e != api.ErrNone || g.Held() != m.held() {
+		return false
+	}
+	queue := g.Queue()
+	same := slices.Equal(queue, m.queue())
+	scribble(queue)
+	return same
 }
 
 func follow(t *testing.T, room, pass int, steps []step) {
 	t.Helper()
 	g, m := begin(t, room, pass), &model{room: room, pass: pass}
 	for i, s := range steps {
-		if !same(g, m, s) {
-			t.Fatalf("New(%d, %d): behind %+v the gate is not as the model: %+v, Held %d", room, pass, steps[:i+1], m.tickets, g.Held())
+		before := m.held()
+		if !sameAnswer(g, m, s) || !sameStand(g, m) {
+			t.Fatalf("New(%d, %d): behind %v the gate is not as the model: %+v, Held %d, Queue %v", room, pass, steps[:i+1], m.tickets, g.Held(), g.Queue())
+		}
+		if held := g.Held(); held > before && held > m.room {
+			t.Fatalf("P9: New(%d, %d): behind %v %d is held, and the room is %d", room, pass, steps[:i+1], held, m.room)
 		}
 	}
 }
 
-// TestAllShortRuns goes through every run of five calls of a small choice.
+// TestAllShortRuns goes through every run of a few calls of a small choice.
 func TestAllShortRuns(t *testing.T) {
-	choice := []step{
+	allRuns(t, 5, []step{
 		{weight: 1, band: 0, wait: api.Forever}, {weight: 1, band: 1, wait: 1}, {weight: 2, band: 1, wait: api.Forever},
 		{weight: 2, band: 2, wait: api.MaxWait}, {weight: 1, band: 2, wait: api.Forever}, {weight: 1, band: 0, wait: 0},
-		{give: true, ticket: 1}, {give: true, ticket: 2}, {give: true, ticket: 3},
-	}
-	steps := make([]step, 5)
+		{call: toGive, n: 1}, {call: toGive, n: 2}, {call: toGive, n: 3},
+	})
+	allRuns(t, 5, []step{
+		{weight: 1, band: 0, wait: 1}, {weight: 2, band: 1, wait: 2}, {weight: 1, band: 2, wait: api.Forever},
+		{call: toGive, n: 1}, {call: toCancel, n: 1}, {call: toCancel, n: 2}, {call: toTick},
+		{call: toResize, n: 0}, {call: toResize, n: 2},
+	})
+}
+
+func allRuns(t *testing.T, length int, choice []step) {
+	steps := make([]step, length)
 	runs := 1
 	for range steps {
 		runs *= len(choice)
@@ -172,20 +262,32 @@ func TestLongRuns(t *testing.T) {
 }
 
 func anyStep(r *rand.Rand, tickets, room int) step {
-	wrong := []int{least, -2, -1, 0, 101, 1000001, most}
-	heaviest := min(room/3+2, api.MaxWeight)
-	s := step{weight: 1 + r.Intn(heaviest), band: r.Intn(api.Bands), wait: []int{-1, -1, -1, 0, 1, 1000000}[r.Intn(6)]}
-	switch r.Intn(20) {
-	case 0:
-		s.weight = wrong[r.Intn(len(wrong))]
-	case 1:
-		s.band = wrong[r.Intn(len(wrong))]
-	case 2:
-		s.wait = wrong[r.Intn(len(wrong))]
-	case 3:
-		return step{give: true, ticket: wrong[r.Intn(len(wrong))]}
-	case 4, 5, 6, 7, 8, 9, 10, 11:
-		return step{give: true, ticket: 1 + r.Intn(tickets+1)}
+	wrong := []int{least, -2, -1, 0, 101, 1001, 1000001, most}
+	switch r.Intn(40) {
+	case 0, 1, 2, 3:
+		return wrongAsk(r, room, wrong[r.Intn(len(wrong))])
+	case 4, 5, 6:
+		return step{call: []int{toGive, toCancel, toResize}[r.Intn(3)], n: wrong[r.Intn(len(wrong))]}
+	case 7, 8, 9:
+		return step{call: toResize, n: min(r.Intn(room+5), api.MaxRoom)}
+	case 10, 11, 12, 13:
+		return step{call: toCancel, n: 1 + r.Intn(tickets+1)}
+	case 14, 15, 16, 17:
+		return step{call: toTick}
+	case 18, 19, 20, 21, 22, 23, 24, 25, 26:
+		return step{call: toGive, n: 1 + r.Intn(tickets+1)}
 	}
+	return anyAsk(r, room)
+}
+
+func anyAsk(r *rand.Rand, room int) step {
+	heaviest := min(room/3+2, api.MaxWeight)
+	waits := []int{-1, -1, -1, -1, 0, 1, 2, 3, 5, 8, 1000000}
+	return step{weight: 1 + r.Intn(heaviest), band: r.Intn(api.Bands), wait: waits[r.Intn(len(waits))]}
+}
+
+func wrongAsk(r *rand.Rand, room, wrong int) step {
+	s := anyAsk(r, room)
+	*[]*int{&s.weight, &s.band, &s.wait}[r.Intn(3)] = wrong
 	return s
 }

@@ -287,8 +287,8 @@ func TestGiveLetsInAsManyAsFit(t *testing.T) {
 	stands(t, g, 10, api.Done, api.Holds, api.Holds, api.Holds, api.Waits)
 }
 
-// The first example of the document, as far as it speaks of these calls.
-func TestExample(t *testing.T) {
+// The first example of the document.
+func TestFirstExample(t *testing.T) {
 	g := begin(t, 10, 2)
 	ask(t, g, 6, 1, api.Forever, 1, api.Holds)
 	ask(t, g, 6, 1, api.Forever, 2, api.Waits)
@@ -298,8 +298,10 @@ func TestExample(t *testing.T) {
 	ask(t, g, 4, 0, api.Forever, 5, api.Holds)
 	give(t, g, 5, api.OK)
 	ask(t, g, 4, 0, api.Forever, 6, api.Waits)
+	queue(t, g, 2, 6)
 	give(t, g, 1, api.OK)
 	stands(t, g, 10, api.Done, api.Holds, api.Refused, api.Done, api.Done, api.Holds)
+	queue(t, g)
 }
 
 // What a gate answers hangs on no other gate.

@@ -11,10 +11,22 @@ type record struct {
 
 // waiter is what is kept of a ticket only as long as it waits.
 type waiter struct {
-	ticket *record
+	ticket int
+	record *record
 	band   int
 	count  int // how often it was passed by
 	until  int // the time at which it is late, or api.Forever
+}
+
+// ranks is how many there are: one for the bound, and one for each band.
+const ranks = 1 + api.Bands
+
+// rank says whose turn comes first: the lowest one's, and of equals the earliest's.
+func (w *waiter) rank(pass int) int {
+	if w.count >= pass {
+		return 0
+	}
+	return 1 + w.band
 }
 
 // settle tells how a ticket stands that does not wait, or from now on waits no more.

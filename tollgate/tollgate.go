@@ -21,8 +21,8 @@ type Gate struct {
 
 // New makes a gate (P3).
 func New(room int, pass int) (*Gate, api.Errno) {
-	if room < 0 || room > api.MaxRoom {
-		return nil, api.ErrRoom
+	if e := checkRoom(room); e != api.OK {
+		return nil, e
 	}
 	if pass < 0 || pass > api.MaxPass {
 		return nil, api.ErrPass
@@ -45,7 +45,7 @@ func (g *Gate) Ask(weight int, band int, wait int) (int, int, api.Errno) {
 	case wait == 0:
 		r.settle(api.Refused)
 	default:
-		g.enqueue(r, band, wait)
+		g.enqueue(len(g.tickets), band, wait)
 		g.letIn()
 	}
 	return len(g.tickets), r.state(), api.OK
@@ -70,13 +70,41 @@ func (g *Gate) Give(ticket int) api.Errno {
 }
 
 // Cancel lets a ticket wait no longer (P6).
-func (g *Gate) Cancel(ticket int) api.Errno { return api.OK }
+func (g *Gate) Cancel(ticket int) api.Errno {
+	g.mutex.Lock()
+	defer g.mutex.Unlock()
+	r, e := g.find(ticket)
+	if e != api.OK {
+		return e
+	}
+	if !r.waits() {
+		return api.ErrState
+	}
+	g.leave(g.place(ticket), api.Cancelled)
+	g.letIn()
+	return api.OK
+}
 
 // Tick lets time go by (P6).
-func (g *Gate) Tick() {}
+func (g *Gate) Tick() {
+	g.mutex.Lock()
+	defer g.mutex.Unlock()
+	g.now++
+	g.dropLate()
+	g.letIn()
+}
 
 // Resize gives the gate another room (P6).
-func (g *Gate) Resize(room int) api.Errno { return api.OK }
+func (g *Gate) Resize(room int) api.Errno {
+	g.mutex.Lock()
+	defer g.mutex.Unlock()
+	if e := checkRoom(room); e != api.OK {
+		return e
+	}
+	g.room = room
+	g.letIn()
+	return api.OK
+}
 
 // Held tells what all tickets hold together (P7).
 func (g *Gate) Held() int {
@@ -86,7 +114,11 @@ func (g *Gate) Held() int {
 }
 
 // Queue tells the tickets that wait, in the order of their turns (P7).
-func (g *Gate) Queue() []int { return nil }
+func (g *Gate) Queue() []int {
+	g.mutex.Lock()
+	defer g.mutex.Unlock()
+	return g.turns()
+}
 
 // Hall is a gate for readers and writers.
 type Hall struct{ Gate }
