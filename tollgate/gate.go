@@ -14,6 +14,21 @@ func checkRoom(room int) api.Errno {
 	return api.OK
 }
 
+// checkReaders asks for less than checkRoom: a writer's weight is that of all readers, and none may be above MaxWeight.
+func checkReaders(readers int) api.Errno {
+	if readers < 1 || readers > api.MaxWeight {
+		return api.ErrRoom
+	}
+	return api.OK
+}
+
+func checkPass(pass int) api.Errno {
+	if pass < 0 || pass > api.MaxPass {
+		return api.ErrPass
+	}
+	return api.OK
+}
+
 func checkAsk(weight int, band int, wait int) api.Errno {
 	switch {
 	case weight < 1 || weight > api.MaxWeight:

@@ -9,6 +9,18 @@ import (
 	"tollgate/tollgate"
 )
 
+// gate is what a gate can do, and, by promotion, a hall.
+type gate interface {
+	Ask(weight int, band int, wait int) (int, int, api.Errno)
+	State(ticket int) (int, api.Errno)
+	Give(ticket int) api.Errno
+	Cancel(ticket int) api.Errno
+	Tick()
+	Resize(room int) api.Errno
+	Held() int
+	Queue() []int
+}
+
 func begin(t *testing.T, room, pass int) *tollgate.Gate {
 	t.Helper()
 	g, e := tollgate.New(room, pass)
@@ -18,7 +30,16 @@ func begin(t *testing.T, room, pass int) *tollgate.Gate {
 	return g
 }
 
-func ask(t *testing.T, g *tollgate.Gate, weight, band, wait, number, stands int) {
+func beginHall(t *testing.T, readers, pass int) *tollgate.Hall {
+	t.Helper()
+	h, e := tollgate.NewHall(readers, pass)
+	if e != api.OK || h == nil {
+		t.Fatalf("P8: NewHall(%d, %d) = %v, %d", readers, pass, h != nil, e)
+	}
+	return h
+}
+
+func ask(t *testing.T, g gate, weight, band, wait, number, stands int) {
 	t.Helper()
 	n, s, e := g.Ask(weight, band, wait)
 	if n != number || s != stands || e != api.OK {
@@ -26,7 +47,23 @@ func ask(t *testing.T, g *tollgate.Gate, weight, band, wait, number, stands int)
 	}
 }
 
-func give(t *testing.T, g *tollgate.Gate, ticket int, want api.Errno) {
+func read(t *testing.T, h *tollgate.Hall, wait, number, stands int) {
+	t.Helper()
+	n, s, e := h.Read(wait)
+	if n != number || s != stands || e != api.OK {
+		t.Errorf("P8: Read(%d) = %d, %d, %d, want %d, %d, 0", wait, n, s, e, number, stands)
+	}
+}
+
+func write(t *testing.T, h *tollgate.Hall, wait, number, stands int) {
+	t.Helper()
+	n, s, e := h.Write(wait)
+	if n != number || s != stands || e != api.OK {
+		t.Errorf("P8: Write(%d) = %d, %d, %d, want %d, %d, 0", wait, n, s, e, number, stands)
+	}
+}
+
+func give(t *testing.T, g gate, ticket int, want api.Errno) {
 	t.Helper()
 	if e := g.Give(ticket); e != want {
 		t.Errorf("P5: Give(%d) = %d, want %d", ticket, e, want)
@@ -34,7 +71,7 @@ func give(t *testing.T, g *tollgate.Gate, ticket int, want api.Errno) {
 }
 
 // stands asks how all tickets stand, and that there is none behind them.
-func stands(t *testing.T, g *tollgate.Gate, held int, states ...int) {
+func stands(t *testing.T, g gate, held int, states ...int) {
 	t.Helper()
 	for i, want := range states {
 		if s, e := g.State(i + 1); s != want || e != api.OK {
@@ -51,28 +88,28 @@ func stands(t *testing.T, g *tollgate.Gate, held int, states ...int) {
 	}
 }
 
-func cancel(t *testing.T, g *tollgate.Gate, ticket int, want api.Errno) {
+func cancel(t *testing.T, g gate, ticket int, want api.Errno) {
 	t.Helper()
 	if e := g.Cancel(ticket); e != want {
 		t.Errorf("P6: Cancel(%d) = %d, want %d", ticket, e, want)
 	}
 }
 
-func resize(t *testing.T, g *tollgate.Gate, room int, want api.Errno) {
+func resize(t *testing.T, g gate, room int, want api.Errno) {
 	t.Helper()
 	if e := g.Resize(room); e != want {
 		t.Errorf("P6: Resize(%d) = %d, want %d", room, e, want)
 	}
 }
 
-func queue(t *testing.T, g *tollgate.Gate, want ...int) {
+func queue(t *testing.T, g gate, want ...int) {
 	t.Helper()
 	if l := g.Queue(); !slices.Equal(l, want) {
 		t.Errorf("P7: Queue() = %v, want %v", l, want)
 	}
 }
 
-func ticks(g *tollgate.Gate, times int) {
+func ticks(g gate, times int) {
 	for range times {
 		g.Tick()
 	}

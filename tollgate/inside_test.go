@@ -117,11 +117,21 @@ func TestUntil(t *testing.T) {
 	}
 }
 
-// Each call waits for the mutex, and gives it back, with an error too.
+func openHall(t *testing.T, readers, pass int) *Hall {
+	t.Helper()
+	h, e := NewHall(readers, pass)
+	if e != api.OK {
+		t.Fatalf("NewHall(%d, %d): %d", readers, pass, e)
+	}
+	return h
+}
+
+// Each call waits for the mutex, and gives it back, with an error too; those of a hall for that of the gate that it embeds.
 func TestEachCallTakesTheMutex(t *testing.T) {
-	g := open(t, 3, 0)
-	g.Ask(1, 0, 0)
-	g.Ask(100, 0, api.Forever)
+	h := openHall(t, 3, 0)
+	h.Ask(1, 0, 0)
+	h.Ask(100, 0, api.Forever)
+	g := &h.Gate
 	for name, call := range map[string]func(){
 		"Ask":              func() { g.Ask(1, 0, api.Forever) },
 		"Ask, an error":    func() { g.Ask(0, 0, 0) },
@@ -137,6 +147,18 @@ func TestEachCallTakesTheMutex(t *testing.T) {
 		"Resize, an error": func() { g.Resize(-1) },
 		"Held":             func() { g.Held() },
 		"Queue":            func() { g.Queue() },
+		"Read":             func() { h.Read(api.Forever) },
+		"Read, an error":   func() { h.Read(-2) },
+		"Write":            func() { h.Write(api.Forever) },
+		"Write, an error":  func() { h.Write(-2) },
+		"a hall's Ask":     func() { h.Ask(1, 0, api.Forever) },
+		"a hall's State":   func() { h.State(1) },
+		"a hall's Give":    func() { h.Give(1) },
+		"a hall's Cancel":  func() { h.Cancel(2) },
+		"a hall's Tick":    func() { h.Tick() },
+		"a hall's Resize":  func() { h.Resize(2) },
+		"a hall's Held":    func() { h.Held() },
+		"a hall's Queue":   func() { h.Queue() },
 	} {
 		ended := make(chan struct{})
 		g.mutex.Lock()
@@ -159,11 +181,17 @@ func TestEachCallTakesTheMutex(t *testing.T) {
 
 // Less held than nothing, which never is: the panic stays inside, the mutex is given back, and nothing has changed.
 func TestLessHeldThanNothing(t *testing.T) {
-	g := open(t, 5, 1)
+	g, h := open(t, 5, 1), openHall(t, 5, 1)
+	lessThanNothing(t, g, g.Give)
+	lessThanNothing(t, &h.Gate, h.Give)
+}
+
+func lessThanNothing(t *testing.T, g *Gate, give func(ticket int) api.Errno) {
+	t.Helper()
 	g.Ask(5, 0, api.Forever)
 	g.Ask(1, 0, api.Forever)
 	g.held = 4
-	if e := g.Give(1); e != api.ErrState {
+	if e := give(1); e != api.ErrState {
 		t.Errorf("Give(1) = %d, want ErrState", e)
 	}
 	first, _ := g.State(1)
@@ -171,4 +199,21 @@ func TestLessHeldThanNothing(t *testing.T) {
 	if first != api.Holds || second != api.Waits || g.Held() != 4 {
 		t.Errorf("behind the caught panic: %d, %d, Held %d", first, second, g.Held())
 	}
+	g.held = 5
+	if e := give(1); e != api.OK || g.Held() != 1 {
+		t.Errorf("Give(1) = %d, Held() = %d, though all is as it must be again", e, g.Held())
+	}
+}
+
+// release is what panics: that Give tells an error is of its recover, and not of a look ahead.
+func TestReleasePanics(t *testing.T) {
+	g := open(t, 5, 1)
+	g.Ask(5, 0, api.Forever)
+	g.held = 4
+	defer func() {
+		if recover() == nil {
+			t.Error("less held than nothing is no panic")
+		}
+	}()
+	g.release(g.tickets[0])
 }

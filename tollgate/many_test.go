@@ -6,7 +6,6 @@ import (
 	"testing"
 
 	"tollgate/api"
-	"tollgate/tollgate"
 )
 
 const (
@@ -83,8 +82,89 @@ func TestGivesAtOnce(t *testing.T) {
 	}
 }
 
-// giveWhenHeld says whether the ticket came in; it gives up at last, so that a gate at fault fails the test, and does not hang it.
-func giveWhenHeld(t *testing.T, g *tollgate.Gate, n int) bool {
+// A writer is alone, whoever asks when: what only writers write and readers read needs no other lock. (The race detector looks at it too.)
+func TestReadersAndWritersAtOnce(t *testing.T) {
+	h := beginHall(t, 3, 2)
+	var pair [2]int
+	var written [workers]int
+	atOnce(func(worker int) {
+		for i := range rounds {
+			if (i+worker)%3 > 0 {
+				n, _, _ := h.Read(api.Forever)
+				if !waitToHold(t, h, n) {
+					return
+				}
+				if pair[0] != pair[1] {
+					t.Errorf("P9: a reader is in while somebody writes")
+				}
+				give(t, h, n, api.OK)
+				continue
+			}
+			n, _, _ := h.Write(api.Forever)
+			if !waitToHold(t, h, n) {
+				return
+			}
+			pair[0]++
+			runtime.Gosched()
+			pair[1]++
+			written[worker]++
+			give(t, h, n, api.OK)
+		}
+	})
+	sum := 0
+	for _, n := range written {
+		sum += n
+	}
+	if pair != [2]int{sum, sum} || h.Held() != 0 || len(h.Queue()) != 0 {
+		t.Errorf("P9: %d were written, and there are %v; Held() = %d, Queue() = %v", sum, pair, h.Held(), h.Queue())
+	}
+}
+
+// A hall's own calls and the promoted ones, all at once: each Read and Write has a number of its own, and what is held is what the tickets say.
+func TestAllCallsOfAHallAtOnce(t *testing.T) {
+	h := beginHall(t, 4, 0)
+	atOnce(func(worker int) {
+		for i := range rounds {
+			call := h.Read
+			if (i+worker)%4 == 0 {
+				call = h.Write
+			}
+			n, _, e := call([]int{api.Forever, 0, 7}[i%3])
+			if e != api.OK {
+				t.Errorf("P8: %d", e)
+			}
+			switch (i + worker) % 5 {
+			case 0:
+				h.Cancel(n)
+			case 1:
+				h.Tick()
+			case 2:
+				h.Resize(i % 10)
+			case 3:
+				checkOrder(t, h.Queue())
+			}
+			h.Give(n - worker)
+		}
+	})
+	resize(t, h, 4, api.OK)
+	drain(t, h, workers*rounds)
+	read(t, h, 0, workers*rounds+1, api.Holds)
+}
+
+// giveWhenHeld says whether the ticket came in, and was given back.
+func giveWhenHeld(t *testing.T, g gate, n int) bool {
+	if !waitToHold(t, g, n) {
+		return false
+	}
+	if e := g.Give(n); e != api.OK {
+		t.Errorf("P5: Give(%d) = %d", n, e)
+		return false
+	}
+	return true
+}
+
+// waitToHold says whether the ticket came in; it gives up at last, so that a gate at fault fails the test, and does not hang it.
+func waitToHold(t *testing.T, g gate, n int) bool {
 	for range 10_000_000 {
 		s, e := g.State(n)
 		if e == api.OK && s == api.Waits {
@@ -93,10 +173,6 @@ func giveWhenHeld(t *testing.T, g *tollgate.Gate, n int) bool {
 		}
 		if e != api.OK || s != api.Holds {
 			t.Errorf("P4: State(%d) = %d, %d", n, s, e)
-			return false
-		}
-		if e := g.Give(n); e != api.OK {
-			t.Errorf("P5: Give(%d) = %d", n, e)
 			return false
 		}
 		return true
@@ -206,7 +282,7 @@ func checkOrder(t *testing.T, l []int) {
 }
 
 // drain gives back all that is held, and all that comes in by it, until nobody is left.
-func drain(t *testing.T, g *tollgate.Gate, tickets int) {
+func drain(t *testing.T, g gate, tickets int) {
 	for range tickets {
 		for n := range tickets {
 			g.Give(n + 1)

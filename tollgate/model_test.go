@@ -10,10 +10,10 @@ import (
 	"tollgate/tollgate"
 )
 
-// model says again what the document's words say, with all tickets in one list and nothing counted ahead.
+// model says again what the document's words say, with all tickets in one list and nothing counted ahead. It has readers if it is one of a hall.
 type model struct {
-	room, pass int
-	tickets    []modelTicket
+	room, pass, readers int
+	tickets             []modelTicket
 }
 
 // left is how many Ticks it is to wait still; below 0, if for ever.
@@ -144,6 +144,8 @@ const (
 	toCancel
 	toTick
 	toResize
+	toRead
+	toWrite
 )
 
 // step is one call; n is a ticket, or a room.
@@ -159,12 +161,16 @@ func (s step) String() string {
 		return "Tick()"
 	case toResize:
 		return fmt.Sprintf("Resize(%d)", s.n)
+	case toRead:
+		return fmt.Sprintf("Read(%d)", s.wait)
+	case toWrite:
+		return fmt.Sprintf("Write(%d)", s.wait)
 	}
 	return fmt.Sprintf("Ask(%d, %d, %d)", s.weight, s.band, s.wait)
 }
 
 // sameAnswer makes the call on both, and says whether they answer alike.
-func sameAnswer(g *tollgate.Gate, m *model, s step) bool {
+func sameAnswer(g gate, m *model, s step) bool {
 	switch s.call {
 	case toGive:
 		return g.Give(s.n) == m.give(s.n)
@@ -177,13 +183,34 @@ func sameAnswer(g *tollgate.Gate, m *model, s step) bool {
 	case toResize:
 		return g.Resize(s.n) == m.resize(s.n)
 	}
-	n, stands, e := g.Ask(s.weight, s.band, s.wait)
-	n2, stands2, e2 := m.ask(s.weight, s.band, s.wait)
+	n, stands, e := asks(g, s)
+	n2, stands2, e2 := m.asks(s)
 	return n == n2 && stands == stands2 && e == e2
 }
 
+// asks makes a call that has a ticket; to read or to write only a hall is asked.
+func asks(g gate, s step) (int, int, api.Errno) {
+	switch s.call {
+	case toRead:
+		return g.(*tollgate.Hall).Read(s.wait)
+	case toWrite:
+		return g.(*tollgate.Hall).Write(s.wait)
+	}
+	return g.Ask(s.weight, s.band, s.wait)
+}
+
+func (m *model) asks(s step) (int, int, api.Errno) {
+	switch s.call {
+	case toRead:
+		return m.ask(1, 1, s.wait)
+	case toWrite:
+		return m.ask(m.readers, 0, s.wait)
+	}
+	return m.ask(s.weight, s.band, s.wait)
+}
+
 // sameStand says whether all tickets, what is held and who waits are alike; also that nobody was passed by too often.
-func sameStand(g *tollgate.Gate, m *model) bool {
+func sameStand(g gate, m *model) bool {
 	for i, x := range m.tickets {
 		if stands, e := g.State(i + 1); stands != x.stands || e != api.OK || x.count > m.pass {
 			return false
@@ -200,48 +227,74 @@ func sameStand(g *tollgate.Gate, m *model) bool {
 
 func follow(t *testing.T, room, pass int, steps []step) {
 	t.Helper()
-	g, m := begin(t, room, pass), &model{room: room, pass: pass}
+	keepUp(t, begin(t, room, pass), &model{room: room, pass: pass}, steps)
+}
+
+func followHall(t *testing.T, readers, pass int, steps []step) {
+	t.Helper()
+	keepUp(t, beginHall(t, readers, pass), &model{room: readers, pass: pass, readers: readers}, steps)
+}
+
+func keepUp(t *testing.T, g gate, m *model, steps []step) {
+	t.Helper()
+	room := m.room
 	for i, s := range steps {
-		before := m.held()
 		if !sameAnswer(g, m, s) || !sameStand(g, m) {
-			t.Fatalf("New(%d, %d): behind %v the gate is not as the model: %+v, Held %d, Queue %v", room, pass, steps[:i+1], m.tickets, g.Held(), g.Queue())
-		}
-		if held := g.Held(); held > before && held > m.room {
-			t.Fatalf("P9: New(%d, %d): behind %v %d is held, and the room is %d", room, pass, steps[:i+1], held, m.room)
+			t.Fatalf("%T, room %d, bound %d: behind %v it is not as the model: %+v, Held %d, Queue %v", g, room, m.pass, steps[:i+1], m.tickets, g.Held(), g.Queue())
 		}
 	}
 }
 
 // TestAllShortRuns goes through every run of a few calls of a small choice.
 func TestAllShortRuns(t *testing.T) {
-	allRuns(t, 5, []step{
+	for _, choice := range [][]step{{
 		{weight: 1, band: 0, wait: api.Forever}, {weight: 1, band: 1, wait: 1}, {weight: 2, band: 1, wait: api.Forever},
 		{weight: 2, band: 2, wait: api.MaxWait}, {weight: 1, band: 2, wait: api.Forever}, {weight: 1, band: 0, wait: 0},
 		{call: toGive, n: 1}, {call: toGive, n: 2}, {call: toGive, n: 3},
-	})
-	allRuns(t, 5, []step{
+	}, {
 		{weight: 1, band: 0, wait: 1}, {weight: 2, band: 1, wait: 2}, {weight: 1, band: 2, wait: api.Forever},
 		{call: toGive, n: 1}, {call: toCancel, n: 1}, {call: toCancel, n: 2}, {call: toTick},
 		{call: toResize, n: 0}, {call: toResize, n: 2},
-	})
+	}} {
+		for room := range 4 {
+			for pass := range 3 {
+				allRuns(5, choice, func(steps []step) { follow(t, room, pass, steps) })
+			}
+		}
+	}
 }
 
-func allRuns(t *testing.T, length int, choice []step) {
+// TestAllShortRunsOfAHall has a hall's own calls, and the promoted ones among them.
+func TestAllShortRunsOfAHall(t *testing.T) {
+	for _, choice := range [][]step{{
+		{call: toRead, wait: api.Forever}, {call: toRead, wait: 1}, {call: toWrite, wait: 0}, {call: toWrite, wait: api.Forever},
+		{call: toGive, n: 1}, {call: toGive, n: 2}, {call: toGive, n: 3}, {call: toCancel, n: 2}, {call: toTick},
+	}, {
+		{call: toRead, wait: 0}, {call: toRead, wait: api.MaxWait}, {call: toWrite, wait: 2}, {call: toWrite, wait: api.Forever},
+		{weight: 1, band: 0, wait: api.Forever}, {weight: 2, band: 2, wait: api.Forever},
+		{call: toGive, n: 1}, {call: toResize, n: 1}, {call: toResize, n: 4},
+	}} {
+		for readers := range 3 {
+			for pass := range 3 {
+				allRuns(5, choice, func(steps []step) { followHall(t, readers+1, pass, steps) })
+			}
+		}
+	}
+}
+
+// allRuns hands out one list again and again, written anew for each run.
+func allRuns(length int, choice []step, each func(steps []step)) {
 	steps := make([]step, length)
 	runs := 1
 	for range steps {
 		runs *= len(choice)
 	}
-	for room := range 4 {
-		for pass := range 3 {
-			for run := range runs {
-				for i := range steps {
-					steps[i] = choice[run%len(choice)]
-					run /= len(choice)
-				}
-				follow(t, room, pass, steps)
-			}
+	for run := range runs {
+		for i := range steps {
+			steps[i] = choice[run%len(choice)]
+			run /= len(choice)
 		}
+		each(steps)
 	}
 }
 
@@ -253,12 +306,48 @@ func TestLongRuns(t *testing.T) {
 		if seed%50 == 0 {
 			room, pass = api.MaxRoom, api.MaxPass
 		}
-		steps := make([]step, 120)
-		for i := range steps {
-			steps[i] = anyStep(r, i, room)
-		}
-		follow(t, room, pass, steps)
+		follow(t, room, pass, longRun(120, func(i int) step { return anyStep(r, i, room) }))
 	}
+}
+
+func TestLongRunsOfAHall(t *testing.T) {
+	for seed := range 1500 {
+		r := rand.New(rand.NewSource(int64(seed)))
+		readers, pass := 1+r.Intn(12), r.Intn(6)
+		if seed%50 == 0 {
+			readers, pass = api.MaxWeight, api.MaxPass
+		}
+		followHall(t, readers, pass, longRun(120, func(i int) step {
+			if r.Intn(3) == 0 {
+				return anyStep(r, i, readers)
+			}
+			return hallStep(r, i)
+		}))
+	}
+}
+
+func longRun(length int, next func(i int) step) []step {
+	steps := make([]step, length)
+	for i := range steps {
+		steps[i] = next(i)
+	}
+	return steps
+}
+
+// hallStep is one of those behind which a writer is alone: no Ask, and no Resize.
+func hallStep(r *rand.Rand, tickets int) step {
+	waits := []int{-1, -1, -1, -1, 0, 1, 2, 3, 5, 8, 1000000, -2, 1000001, least, most}
+	switch r.Intn(10) {
+	case 0, 1, 2:
+		return step{call: toRead, wait: waits[r.Intn(len(waits))]}
+	case 3, 4:
+		return step{call: toWrite, wait: waits[r.Intn(len(waits))]}
+	case 5:
+		return step{call: toTick}
+	case 6:
+		return step{call: toCancel, n: 1 + r.Intn(tickets+1)}
+	}
+	return step{call: toGive, n: 1 + r.Intn(tickets+1)}
 }
 
 func anyStep(r *rand.Rand, tickets, room int) step {

@@ -24,8 +24,8 @@ func New(room int, pass int) (*Gate, api.Errno) {
 	if e := checkRoom(room); e != api.OK {
 		return nil, e
 	}
-	if pass < 0 || pass > api.MaxPass {
-		return nil, api.ErrPass
+	if e := checkPass(pass); e != api.OK {
+		return nil, e
 	}
 	return &Gate{room: room, pass: pass}, api.OK
 }
@@ -120,12 +120,28 @@ func (g *Gate) Queue() []int {
 	return g.turns()
 }
 
+const (
+	writeBand = 0
+	readBand  = 1
+)
+
 // Hall is a gate for readers and writers.
-type Hall struct{ Gate }
+type Hall struct {
+	Gate
+	readers int // a writer's weight: Resize changes the gate's room, and not this
+}
 
 // NewHall makes one for so many readers (P8).
-func NewHall(readers int, pass int) (*Hall, api.Errno) { return nil, api.OK }
+func NewHall(readers int, pass int) (*Hall, api.Errno) {
+	if e := checkReaders(readers); e != api.OK {
+		return nil, e
+	}
+	if e := checkPass(pass); e != api.OK {
+		return nil, e
+	}
+	return &Hall{Gate: Gate{room: readers, pass: pass}, readers: readers}, api.OK
+}
 
 // Read and Write ask to come in (P8).
-func (h *Hall) Read(wait int) (int, int, api.Errno)  { return 0, 0, api.OK }
-func (h *Hall) Write(wait int) (int, int, api.Errno) { return 0, 0, api.OK }
+func (h *Hall) Read(wait int) (int, int, api.Errno)  { return h.Ask(1, readBand, wait) }
+func (h *Hall) Write(wait int) (int, int, api.Errno) { return h.Ask(h.readers, writeBand, wait) }
